@@ -1,0 +1,1 @@
+"""Halfring: a store of keys on one ring of cells."""
