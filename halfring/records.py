@@ -1,7 +1,6 @@
 """Keys, words, records, deeds and tables."""
 
-from halfring.errors import Unfit
-from halfring.values import as_tuples, checked, is_natural, is_rising, is_row, is_row_of
+from halfring.values import checked, is_natural, is_rising, is_row, is_row_of
 
 SIGNS = "abcdefghijklmnopqrstuvwxyz0123456789"
 MOST_SIGNS = 12
@@ -38,7 +37,7 @@ def is_record(thing):
     """Whether thing is a record."""
     if thing == BLANK:
         return True
-    if not isinstance(thing, tuple) or len(thing) < 2:
+    if not isinstance(thing, tuple):
         return False
     return is_single(thing[:-2]) and is_natural(thing[-2]) and is_natural(thing[-1])
 

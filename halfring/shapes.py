@@ -13,6 +13,11 @@ def is_shape(thing):
     return cells >= 2 and 1 <= flight < cells and marks >= 1
 
 
+def is_place_in(shape, thing):
+    """Whether thing is a place of shape, a shape."""
+    return is_below(thing, turn_in(shape))
+
+
 def window(shape):
     """How many records the window has."""
     return window_in(checked(is_shape, shape))

@@ -172,3 +172,182 @@ def some_device(dice, shape, full=False):
 def dice_of(seed):
     """Chance that is the same in each run."""
     return random.Random(seed)
+
+
+# What follows is told anew, straight from the words of the document, and uses nothing of the package.
+
+
+def shows_by_hand(shape, picture, number):
+    """Whether picture shows number."""
+    cells, _, marks = shape
+    own = picture[number % cells]
+    return own != TORN and own[0] == number // cells % marks
+
+
+def whole_by_hand(shape, picture):
+    """The whole places of picture, ascending."""
+    cells, flight, marks = shape
+    return [place for place in range(marks * cells)
+            if all(shows_by_hand(shape, picture, place - back) for back in range(1, cells - flight + 1))]
+
+
+def far_by_hand(shape, picture):
+    """The far places of picture, ascending."""
+    cells, flight, marks = shape
+    whole = whole_by_hand(shape, picture)
+    return [place for place in whole
+            if not any((place + step) % (marks * cells) in whole for step in range(1, flight + 1))]
+
+
+def answer_by_hand(shape, picture):
+    """The answer of picture, or None."""
+    far = far_by_hand(shape, picture)
+    return far[0] if len(far) == 1 else None
+
+
+def is_fit_by_hand(shape, picture, place, flown):
+    """Whether (place, flown) is a fit of picture."""
+    cells, flight, _ = shape
+    if not all(shows_by_hand(shape, picture, place - back) for back in range(1, cells - flight + 1)):
+        return False
+    return all(picture[(place + step) % cells] == TORN or shows_by_hand(shape, picture, place + step - cells)
+               or step < flown and shows_by_hand(shape, picture, place + step) for step in range(flight))
+
+
+def fits_by_hand(shape, picture):
+    """The fits of picture, ascending."""
+    cells, flight, marks = shape
+    return [(place, flown) for place in range(marks * cells) for flown in range(flight + 1)
+            if is_fit_by_hand(shape, picture, place, flown)]
+
+
+def right_by_hand(shape, picture, fits):
+    """The places that are right for all of fits."""
+    cells, _, marks = shape
+    return [place for place in whole_by_hand(shape, picture)
+            if all(any((s + step) % (marks * cells) == place for step in range(flown + 1)) for s, flown in fits)]
+
+
+class LifeByHand:
+    """A life as it goes on: what lies in the cells, what is in flight, the numbers that stand and are begun."""
+
+    def __init__(self, shape):
+        self.shape = shape
+        self.picture = [(shape[2] - 1, BLANK)] * shape[0]
+        self.flight = []
+        self.stands = self.begun = 0
+        self.awake = True
+        self.events = []
+        self.records = {}
+        self.forced = []
+
+    def turn(self):
+        """How many places there are."""
+        return self.shape[0] * self.shape[2]
+
+    def answer(self):
+        """The answer of the picture, or None."""
+        return answer_by_hand(self.shape, self.picture)
+
+    def mending(self):
+        """The writes of mending."""
+        cells, flight, marks = self.shape
+        numbers = [self.answer() + step - cells for step in range(flight)]
+        return [(number % cells, (number // cells % marks, BLANK)) for number in numbers
+                if self.picture[number % cells] != TORN and not shows_by_hand(self.shape, self.picture, number)]
+
+    def settle(self):
+        """All of flight stands."""
+        for cell, content in self.flight:
+            self.picture[cell] = content
+        self.flight = []
+
+    def fall(self, fates):
+        """All of flight falls by its fates."""
+        for (cell, content), fate in zip(self.flight, fates):
+            self.picture[cell] = {"new": content, "torn": TORN, "old": self.picture[cell]}[fate]
+        self.flight = []
+
+    def write(self, record):
+        """One more record."""
+        cells, flight, marks = self.shape
+        if len(self.flight) == flight:
+            self.settle()
+            self.stands = self.begun
+            self.forced.append(self.begun)
+        self.flight.append((self.begun % cells, (self.begun // cells % marks, record)))
+        self.records[self.begun] = record
+        self.begun += 1
+        self.events.append(("write", record))
+
+    def sync(self):
+        """All that is in flight stands."""
+        self.settle()
+        self.stands = self.begun
+        self.events.append(("sync",))
+
+    def cut(self, fates):
+        """The power goes."""
+        self.fall(fates)
+        self.awake = False
+        self.events.append(("cut", fates))
+
+    def mend(self, many, fates):
+        """Mending is begun, and the power goes again."""
+        self.flight = self.mending()[:many]
+        self.fall(fates)
+        self.events.append(("mend", many, fates))
+
+    def wake(self):
+        """Mending is done, and the row goes on from the answer."""
+        self.stands = self.begun = self.stands + (self.answer() - self.stands) % self.turn()
+        self.flight = self.mending()
+        self.settle()
+        self.awake = True
+        self.events.append(("wake",))
+
+    def device(self):
+        """The device behind the life."""
+        return self.shape, tuple(self.picture), tuple(self.flight)
+
+    def go_on(self, dice):
+        """One more event by chance; False if none can come."""
+        fates = ("new", "old", "torn")
+        if not self.awake:
+            if self.answer() is None:
+                return False
+            if dice.random() < 0.4:
+                many = dice.randint(0, len(self.mending()))
+                self.mend(many, tuple(dice.choice(fates) for _ in range(many)))
+            else:
+                self.wake()
+        elif dice.random() < 0.15:
+            self.cut(tuple(dice.choice(fates) for _ in self.flight))
+        elif dice.random() < 0.1:
+            self.sync()
+        else:
+            self.write(some_record(dice))
+        return True
+
+
+def some_life(dice, shape, most=30):
+    """A life of shape by chance."""
+    life = LifeByHand(shape)
+    for _ in range(dice.randint(0, most)):
+        if not life.go_on(dice):
+            break
+    return life
+
+
+def pictures_of(shape, record=BLANK):
+    """All pictures of shape in which the same record stands in all cells."""
+    cells, _, marks = shape
+    pictures = [()]
+    for _ in range(cells):
+        pictures = [own + (cell,) for own in pictures for cell in [TORN] + [(mark, record) for mark in range(marks)]]
+    return pictures
+
+
+# Shapes all of whose pictures are few: with one mark, safe ones and others.
+FEW = ((2, 1, 1), (2, 1, 2), (2, 1, 3), (3, 1, 1), (3, 2, 1), (3, 1, 2), (3, 2, 2), (3, 2, 3), (4, 1, 2), (4, 2, 2),
+       (4, 3, 2), (4, 3, 3), (4, 2, 1), (5, 3, 2), (5, 4, 2), (5, 2, 1))

@@ -5,7 +5,7 @@ import pathlib
 import unittest
 
 FOLDER = pathlib.Path(__file__).parent / "examples"
-MODULES = ("errors", "signs", "shapes", "records")
+MODULES = ("errors", "signs", "shapes", "records", "devices", "places", "fits", "log")
 
 
 def names_of_all():

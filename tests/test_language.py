@@ -92,8 +92,9 @@ class TestFiles(unittest.TestCase):
                     continue
                 self.assertRegex(node.module, r"^halfring\.[a-z]+$")
                 stem = node.module.split(".")[1]
-                defined = [name for name in top_names(tree_of(PACKAGE / (stem + ".py")))]
-                imported = [alias.name for own in nodes(PACKAGE / (stem + ".py"), ast.ImportFrom) for alias in own.names]
+                defined = top_names(tree_of(PACKAGE / (stem + ".py")))
+                inner = nodes(PACKAGE / (stem + ".py"), ast.ImportFrom)
+                imported = [alias.name for own in inner for alias in own.names]
                 for alias in node.names:
                     self.assertIn(alias.name, defined)
                     self.assertNotIn(alias.name, imported)
@@ -103,6 +104,12 @@ class TestFiles(unittest.TestCase):
             ready = [stem for stem in reaches if stem not in done and all(own in done for own in reaches[stem])]
             self.assertNotEqual(ready, [], "files import from each other")
             done.extend(ready)
+
+    def test_each_import_is_used(self):
+        for path in FILES:
+            used = {node.id for node in nodes(path, ast.Name)}
+            for node in nodes(path, ast.ImportFrom):
+                self.assertLessEqual({alias.name for alias in node.names}, used, path)
 
     def test_the_top_of_a_file(self):
         for path in FILES:

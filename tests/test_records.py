@@ -50,7 +50,8 @@ class TestKinds(unittest.TestCase):
         for deed in (MORE, ("drop", "@a"), PAIR, TRIO, big):
             self.assertIs(told(self, is_deed, thing=deed), True)
             self.assertIs(is_deed(list(deed)), False)
-        for deed in WRONG_DEEDS + (("lot", [("put", "a", "x"), ("drop", "b")]), ("lot", (["drop", "a"], ("drop", "b")))):
+        in_lists = (("lot", [("put", "a", "x"), ("drop", "b")]), ("lot", (["drop", "a"], ("drop", "b"))))
+        for deed in WRONG_DEEDS + in_lists:
             self.assertIs(is_deed(deed), False, deed)
 
     def test_tables(self):

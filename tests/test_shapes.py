@@ -31,6 +31,16 @@ class TestIsShape(unittest.TestCase):
             refuses_each(self, Unfit, function, (None, *args), 0, WRONG_SHAPES)
 
 
+    def test_what_is_nested_deeply_is_refused_too(self):
+        nest = []
+        for _ in range(10000):
+            nest = [nest]
+        for wrong in (nest, (nest, 2, 2), [5, 2, nest]):
+            with self.assertRaises(Unfit):
+                window(wrong)
+            self.assertIs(is_shape(wrong), False)
+
+
 class TestMeasures(unittest.TestCase):
     def test_all(self):
         for shape in SHAPES:
