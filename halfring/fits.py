@@ -40,14 +40,14 @@ def right_for(shape, picture, fit):
 def right_places(shape, picture):
     """The set of the places right for all fits of picture; () if it has none."""
     shape, shown = checked_shown(shape, picture)
-    return right_in(shape, shown)
+    return right_places_in(shape, shown)
 
 
 def is_right(shape, picture, place):
     """Whether place is right for picture."""
     shape, shown = checked_shown(shape, picture)
     place = checked_for(is_place_in, shape, place)
-    return place in right_in(shape, shown)
+    return place in right_places_in(shape, shown)
 
 
 def parting_fits(shape, picture):
@@ -93,7 +93,7 @@ def right_for_all(shape, shown, some):
     return tuple([own for own in whole_in(shape, shown) if all([(own - s) % turn <= flown for s, flown in some])])
 
 
-def right_in(shape, shown):
+def right_places_in(shape, shown):
     """The places right for all fits, ascending; () if there is no fit."""
     # What is right for the least fit with a place is right for the others with it, too.
     leasts = least_fits_in(shape, shown)

@@ -3,8 +3,9 @@
 A state is a pair (device, place): place that of the next record, None while the power is gone."""
 
 from halfring.flights import fallen_in, flown_in, is_fates_row
-from halfring.records import is_record
-from halfring.ring import answer_in, blank_picture, mending_in, turn_in, write_in
+from halfring.records import BLANK, is_record
+from halfring.ring import (answer_in, blank_picture, cell_in, mending_in, places_in, records_before, shows_in, turn_in,
+                           write_in)
 from halfring.values import is_natural, is_row
 
 
@@ -50,6 +51,53 @@ def state_after(state, event):
     return cut_state(device, event[1])
 
 
+def stood_in(state):
+    """The place of the first record in flight, that of the next one without any; the power is on."""
+    (shape, _, flight), place = state
+    return (place - len(flight)) % turn_in(shape)
+
+
+def last_records(state):
+    """The last records, as many as the window has, the eldest first, those in flight among them; the power is on."""
+    (shape, picture, flight), place = state
+    return records_before(shape, flown_in(picture, flight), place)
+
+
+def ending_of(shape, thing):
+    """The triple (picture, stood, fates) of thing, if it is a life of shape that ends with a cut; else None.
+
+    picture is what it leaves, stood the place ahead of which all stood when the power went."""
+    behind = state_behind(shape, thing)
+    if behind is None or thing == () or thing[-1][0] != "cut":
+        return None
+    return behind[0][1], stood_in(state_behind(shape, thing[:-1])), thing[-1][1]
+
+
+def life_leaving(shape, picture, number):
+    """A life that ends with a cut, all in flight, all ahead of record number having stood, and leaves picture.
+
+    The place of number has a fit, and no record but a blank one is shown with a number below 0."""
+    shown = places_in(shape, picture)
+    end = number + shape[1]
+    writes = tuple([("write", record_shown(shape, picture, shown, own)) for own in range(end)])
+    fates = tuple([fate_leaving(shape, shown, own) for own in range(number, end)])
+    return writes[:number] + (("sync",),) + writes[number:] + (("cut", fates),)
+
+
+def record_shown(shape, picture, shown, number):
+    """The record that picture shows as number; a blank one if it does not show it."""
+    if not shows_in(shape, shown, number):
+        return BLANK
+    return picture[cell_in(shape, number)][1]
+
+
+def fate_leaving(shape, shown, number):
+    """The fate of record number in flight that leaves its cell as it is shown."""
+    if shown[cell_in(shape, number)] is None:
+        return "torn"
+    return "old" if shows_in(shape, shown, number - shape[0]) else "new"
+
+
 def written_state(device, place, record):
     """The state behind writing record, all in flight synced ahead if no more can be."""
     shape, _, flight = device
@@ -57,6 +105,13 @@ def written_state(device, place, record):
         device = synced_device(device)
     shape, picture, flight = device
     return (shape, picture, flight + (write_in(shape, place, record),)), (place + 1) % turn_in(shape)
+
+
+def all_written(state, records):
+    """The state behind writing all records, one behind the other; the power is on."""
+    for record in records:
+        state = written_state(state[0], state[1], record)
+    return state
 
 
 def synced_device(device):

@@ -1,13 +1,12 @@
 """Logs: devices on which records are written one behind the other, and the lives that lead to them."""
 
 from halfring.devices import is_device
-from halfring.errors import Asleep, Unfit
-from halfring.flights import flown_in
-from halfring.lives import first_state, state_behind, synced_device, written_state
+from halfring.errors import Asleep
+from halfring.lives import first_state, last_records, state_behind, stood_in, synced_device, written_state
 from halfring.records import is_record
-from halfring.ring import cell_in, least_flown, places_in, turn_in, window_in, write_in
+from halfring.ring import least_flown, places_in, write_in
 from halfring.shapes import is_place_in, is_shape
-from halfring.values import as_tuples, checked, is_row
+from halfring.values import checked, checked_for, is_row
 
 
 def is_log(thing):
@@ -17,16 +16,10 @@ def is_log(thing):
     (shape, picture, flight), place = thing
     if not is_place_in(shape, place):
         return False
-    first = first_in_flight(thing)
+    first = stood_in(thing)
     rightly = tuple([write_in(shape, first + at, content[1]) for at, (_, content) in enumerate(flight)])
     # That the rest lies as it must is to say that first is a fit with nothing flown.
     return flight == rightly and least_flown(shape, places_in(shape, picture), first) == 0
-
-
-def first_in_flight(log):
-    """The place of the first record in flight, that of the next one without any."""
-    (shape, _, flight), place = log
-    return (place - len(flight)) % turn_in(shape)
 
 
 def begun_log(shape):
@@ -48,38 +41,40 @@ def log_synced(log):
 
 def records_of(log):
     """The last records, as many as the window has, the eldest first."""
-    (shape, picture, flight), place = checked(is_log, log)
-    seen = flown_in(picture, flight)
-    return tuple([seen[cell_in(shape, number)][1] for number in range(place - window_in(shape), place)])
+    return last_records(checked(is_log, log))
 
 
 def stood(log):
     """The place of the first record in flight, that of the next one without any."""
-    return first_in_flight(checked(is_log, log))
+    return stood_in(checked(is_log, log))
 
 
 def is_life(shape, thing):
     """Whether thing is a life of shape."""
-    return state_behind(checked(is_shape, shape), thing) is not None
+    return is_life_in(checked(is_shape, shape), thing)
 
 
-def checked_state(shape, life):
-    """The pair (device, place) behind life, place None if the power has gone; Unfit() if it is no life of shape."""
-    state = state_behind(checked(is_shape, shape), as_tuples(life))
-    if state is None:
-        raise Unfit()
-    return state
+def is_life_in(shape, thing):
+    """Whether thing is a life of shape, a shape."""
+    return state_behind(shape, thing) is not None
+
+
+def checked_life(shape, life):
+    """The shape and the life of it; Unfit() if one is none."""
+    shape = checked(is_shape, shape)
+    return shape, checked_for(is_life_in, shape, life)
 
 
 def device_behind(shape, life):
     """The device behind life."""
-    device, _ = checked_state(shape, life)
-    return device
+    shape, life = checked_life(shape, life)
+    return state_behind(shape, life)[0]
 
 
 def log_behind(shape, life):
     """The log behind life."""
-    state = checked_state(shape, life)
+    shape, life = checked_life(shape, life)
+    state = state_behind(shape, life)
     if state[1] is None:
         raise Asleep()
     return state

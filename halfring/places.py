@@ -2,8 +2,8 @@
 
 from halfring.devices import checked_picture, checked_shown
 from halfring.errors import CanNot
-from halfring.ring import (answer_in, cell_in, far_in, gaps_in, is_whole_in, places_in, run_in, shows_in, whole_in,
-                           window_in)
+from halfring.ring import (answer_in, far_in, gaps_in, is_whole_in, places_in, records_before, run_in, shows_in,
+                           whole_in)
 from halfring.shapes import is_place_in
 from halfring.values import checked, checked_for, is_number
 
@@ -65,4 +65,4 @@ def records_ahead(shape, picture, place):
     place = checked_for(is_place_in, shape, place)
     if not is_whole_in(shape, places_in(shape, picture), place):
         raise CanNot()
-    return tuple([picture[cell_in(shape, number)][1] for number in range(place - window_in(shape), place)])
+    return records_before(shape, picture, place)

@@ -98,12 +98,13 @@ def parts_in(deed):
 def closed_in(records):
     """The pairs (i, singles) of all records i that close a lot, singles of the parts that the row has."""
     row = checked(is_records, records)
-    closed = []
-    for at in range(len(row)):
-        first = first_closed(row, at)
-        if first is not None:
-            closed.append((at, tuple([part[:-2] for part in row[first:at + 1]])))
-    return closed
+    return [(at, tuple([part[:-2] for part in row[first:at + 1]])) for first, at in closed_lots(row)]
+
+
+def closed_lots(row):
+    """The pairs (number of the first part that the row has, number of the last one) of all lots closed in row."""
+    pairs = [(first_closed(row, at), at) for at in range(len(row))]
+    return [pair for pair in pairs if pair[0] is not None]
 
 
 def first_closed(row, at):
@@ -125,7 +126,11 @@ def is_part_ahead(part, later):
 
 def left_begun(records):
     """How many records at the end are a lot begun and not closed."""
-    row = checked(is_records, records)
+    return begun_in(checked(is_records, records))
+
+
+def begun_in(row):
+    """How many records at the end of row are a lot begun and not closed."""
     if len(row) == 0 or row[-1] == BLANK or row[-1][-1] == 0:
         return 0
     first = len(row) - 1

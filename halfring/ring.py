@@ -74,6 +74,11 @@ def whole_in(shape, shown):
     return tuple([place for place in range(turn_in(shape)) if is_whole_in(shape, shown, place)])
 
 
+def records_before(shape, picture, place):
+    """The records of the window right ahead of place, the eldest first; no cell of these is torn."""
+    return tuple([picture[cell_in(shape, number)][1] for number in range(place - window_in(shape), place)])
+
+
 def gaps_in(shape, shown):
     """The pairs (place, steps from it on to the next whole place) for each whole place, ascending."""
     turn, whole = turn_in(shape), whole_in(shape, shown)

@@ -310,6 +310,29 @@ class LifeByHand:
         """The device behind the life."""
         return self.shape, tuple(self.picture), tuple(self.flight)
 
+    def do(self, event):
+        """Does event, if it can come here; whether it could."""
+        if event[0] in ("mend", "wake"):
+            return not self.awake and self.answer() is not None and self.do_asleep(event)
+        if not self.awake or event[0] == "cut" and len(event[1]) != len(self.flight):
+            return False
+        {"write": self.write, "sync": self.sync, "cut": self.cut}[event[0]](*event[1:])
+        return True
+
+    def do_asleep(self, event):
+        """Does event, a mend or a wake, if it can come here; whether it could."""
+        if event[0] == "wake":
+            self.wake()
+        elif len(event[2]) != event[1] or event[1] > len(self.mending()):
+            return False
+        else:
+            self.mend(*event[1:])
+        return True
+
+    def right(self):
+        """The places from that ahead of which all stand to the one behind the last begun record."""
+        return tuple(sorted(number % self.turn() for number in range(self.stands, self.begun + 1)))
+
     def go_on(self, dice):
         """One more event by chance; False if none can come."""
         fates = ("new", "old", "torn")
@@ -337,6 +360,90 @@ def some_life(dice, shape, most=30):
         if not life.go_on(dice):
             break
     return life
+
+
+def life_by_hand(shape, events, kind=LifeByHand):
+    """The life of shape with just these events; None if it is none."""
+    life = kind(shape)
+    return life if all(life.do(event) for event in events) else None
+
+
+def cut_life(dice, shape, most=30):
+    """A life of shape by chance that ends with a cut."""
+    while True:
+        life = some_life(dice, shape, most)
+        if not life.awake and life.events[-1][0] == "mend" and life.answer() is not None:
+            life.wake()
+        if life.awake:
+            life.cut(tuple(dice.choice(("new", "old", "torn")) for _ in life.flight))
+        if life.events[-1][0] == "cut":
+            return life
+
+
+def closed_by_hand(row):
+    """The numbers of the records of each lot closed in row, lot by lot."""
+    lots = []
+    for at, record in enumerate(row):
+        if record == BLANK or record[-1] != 0:
+            continue
+        back = range(1, min(record[-2], at) + 1)
+        if all(row[at - k] != BLANK and row[at - k][-2:] == (record[-2] - k, k) for k in back):
+            lots.append(list(range(at - len(back), at + 1)))
+    return lots
+
+
+def last_by_hand(row):
+    """The pairs (number, key) of the last words of row, ascending."""
+    done = [number for lot in closed_by_hand(row) for number in lot]
+    last = []
+    for number in done:
+        later = [row[other] for other in done if other > number]
+        if row[number][0] == "put" and all(other[1] != row[number][1] for other in later):
+            last.append((number, row[number][1]))
+    return tuple(sorted(last))
+
+
+def table_by_hand(row):
+    """The table of row."""
+    table = {}
+    for lot in closed_by_hand(row):
+        for number in lot:
+            table.pop(row[number][1], None)
+            if row[number][0] == "put":
+                table[row[number][1]] = row[number][2]
+    return tuple(sorted(table.items()))
+
+
+def parts_by_hand(deed):
+    """The records of the row of deed."""
+    singles = deed[1] if deed[0] == "lot" else (deed,)
+    return tuple(single + (at, len(singles) - 1 - at) for at, single in enumerate(singles))
+
+
+def row_by_chance(dice, most=8):
+    """A row of deeds, each maybe cut off at its end, with blanks or without, maybe without its first records."""
+    row = ()
+    for _ in range(dice.randint(0, most)):
+        if dice.random() < 0.15:
+            row += (BLANK,) * dice.randint(1, 2)
+        parts = parts_by_hand(some_deed(dice))
+        row += parts[:dice.randint(0, len(parts))] if dice.random() < 0.3 else parts
+    return row[dice.choice((0, 0, dice.randint(0, len(row)))):]
+
+
+def is_safe_by_hand(shape):
+    """Whether shape is safe."""
+    cells, flight, marks = shape
+    return marks > 1 and marks * cells > 3 * flight
+
+
+def some_wide_shapes(dice, many, marks=5):
+    """Some shapes of nine to sixteen cells."""
+    shapes = []
+    for _ in range(many):
+        cells = dice.randint(9, 16)
+        shapes.append((cells, dice.randint(1, cells - 1), dice.randint(1, marks)))
+    return shapes
 
 
 def pictures_of(shape, record=BLANK):

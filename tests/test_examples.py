@@ -5,14 +5,18 @@ import pathlib
 import unittest
 
 FOLDER = pathlib.Path(__file__).parent / "examples"
-MODULES = ("errors", "signs", "shapes", "records", "devices", "places", "fits", "log")
+MODULES = ("errors", "signs", "shapes", "records", "devices", "places", "fits", "threelives", "table", "log", "mending",
+           "meaning")
 
 
 def names_of_all():
-    """All that the modules have, under its own name."""
+    """All that the modules define, under its own name."""
     names = {}
     for module in MODULES:
-        names.update(vars(importlib.import_module("halfring." + module)))
+        path = "halfring." + module
+        for name, own in vars(importlib.import_module(path)).items():
+            if getattr(own, "__module__", None) == path:
+                names[name] = own
     return names
 
 
