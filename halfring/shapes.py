@@ -1,6 +1,6 @@
 """Shapes of a ring, and where numbers of records lie on it."""
 
-from halfring.errors import NoCell, Unfit
+from halfring.errors import NoCell, Unfit, Unsafe
 from halfring.ring import cell_in, is_safe_ring, mark_in, turn_in, window_in
 from halfring.values import as_tuples, checked, is_below, is_number, is_row
 
@@ -16,6 +16,14 @@ def is_shape(thing):
 def is_place_in(shape, thing):
     """Whether thing is a place of shape, a shape."""
     return is_below(thing, turn_in(shape))
+
+
+def checked_safe(shape):
+    """The shape; Unfit() if it is none, Unsafe() if it is not safe."""
+    own = checked(is_shape, shape)
+    if not is_safe_ring(own):
+        raise Unsafe()
+    return own
 
 
 def window(shape):

@@ -431,6 +431,141 @@ def row_by_chance(dice, most=8):
     return row[dice.choice((0, 0, dice.randint(0, len(row)))):]
 
 
+def with_deeds_by_hand(table, deeds):
+    """The table, a set of pairs, behind all deeds."""
+    table = dict(table)
+    for deed in deeds:
+        for single in deed[1] if deed[0] == "lot" else (deed,):
+            table.pop(single[1], None)
+            if single[0] == "put":
+                table[single[1]] = single[2]
+    return tuple(sorted(table.items()))
+
+
+def carried_by_hand(window, many, most=100):
+    """What is carried ahead of many records; None if it does not end."""
+    window, written = list(window), []
+    for _ in range(most):
+        leaving = [number for number, _ in last_by_hand(window) if number < many]
+        if leaving == []:
+            return tuple(written)
+        written.append(window[leaving[0]][:3] + (0, 0))
+        window = window[1:] + written[-1:]
+    return None
+
+
+class StoryByHand(LifeByHand):
+    """A story as it goes on; beside the ring all records by their numbers, and which deed has which of them."""
+
+    def __init__(self, shape):
+        super().__init__(shape)
+        self.story = []
+        self.deeds = []
+        self.refused = []
+
+    def window(self):
+        """The last records of the course."""
+        many = self.shape[0] - self.shape[1]
+        return tuple(self.records.get(number, BLANK) for number in range(self.begun - many, self.begun))
+
+    def has_room(self, deed):
+        """Whether deed has room."""
+        table, many = table_by_hand(self.window()), self.shape[0] - self.shape[1]
+        return len(table) <= many - len(parts_by_hand(deed)) and len(with_deeds_by_hand(table, [deed])) <= many - 1
+
+    def deed(self, deed):
+        """Does deed, if it has room; whether it had."""
+        room = self.has_room(deed)
+        if room:
+            parts = parts_by_hand(deed)
+            for record in carried_by_hand(self.window(), len(parts)) + parts:
+                self.write(record)
+            self.deeds.append((len(self.story), deed, self.begun))
+        else:
+            self.refused.append(len(self.story))
+        self.story.append(("deed", deed))
+        return room
+
+    def sync(self):
+        """All that is in flight stands."""
+        super().sync()
+        self.story.append(("sync",))
+
+    def cut(self, fates):
+        """The power goes."""
+        super().cut(fates)
+        self.story.append(("cut", fates))
+
+    def mend(self, many, fates):
+        """Mending is begun, and the power goes again."""
+        super().mend(many, fates)
+        self.story.append(("mend", many, fates))
+
+    def wake(self):
+        """Mending is done, and the row goes on from the answer."""
+        super().wake()
+        self.records = {number: self.records[number] for number in self.records if number < self.begun}
+        self.deeds = [own for own in self.deeds if own[2] <= self.begun]
+        self.story.append(("wake",))
+
+    def kept_with(self, many):
+        """The numbers of the deeds with all their records among the first many."""
+        return tuple(number for number, _, end in self.deeds if end <= many)
+
+    def plain(self, many):
+        """The plain table of these."""
+        return with_deeds_by_hand((), [deed for _, deed, end in self.deeds if end <= many])
+
+    def number_kept(self):
+        """How many records waking will keep; there is just one such number."""
+        numbers = [number for number in range(self.stands, self.begun + 1) if number % self.turn() == self.answer()]
+        assert len(numbers) == 1
+        return numbers[0]
+
+    def tell_on(self, dice, keys="abcde", cuts=0.12):
+        """One more event by chance."""
+        fates = ("new", "old", "torn")
+        if not self.awake:
+            if dice.random() < 0.4:
+                many = dice.randint(0, len(self.mending()))
+                self.mend(many, tuple(dice.choice(fates) for _ in range(many)))
+            else:
+                self.wake()
+        elif dice.random() < cuts:
+            self.cut(tuple(dice.choice(fates) for _ in self.flight))
+        elif dice.random() < 0.08:
+            self.sync()
+        else:
+            self.deed(deed_of(dice, keys))
+
+
+def deed_of(dice, keys):
+    """A deed by chance, of these keys."""
+    if dice.random() < 0.3:
+        return "lot", tuple(single_of(dice, keys) for _ in range(dice.choice((2, 2, 3, 4, 6))))
+    return single_of(dice, keys)
+
+
+def single_of(dice, keys):
+    """A put or a drop by chance, of these keys."""
+    key = dice.choice(keys)
+    return ("put", key, dice.choice("xyz")) if dice.random() < 0.65 else ("drop", key)
+
+
+def some_told(dice, shape, most=60, keys=None, cuts=0.12):
+    """A story of shape by chance, with about as many keys as there is room for."""
+    story = StoryByHand(shape)
+    keys = keys or "abcdefghijklmnopqrstuvwxyz"[:max(1, shape[0] - shape[1] + dice.randint(-2, 1))]
+    for _ in range(dice.randint(0, most)):
+        story.tell_on(dice, keys, cuts)
+    return story
+
+
+def safe_shapes(cells, marks):
+    """All safe shapes with at most so many cells and marks."""
+    return [shape for shape in all_shapes(cells, marks) if is_safe_by_hand(shape)]
+
+
 def is_safe_by_hand(shape):
     """Whether shape is safe."""
     cells, flight, marks = shape
