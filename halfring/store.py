@@ -97,11 +97,12 @@ class Store:
         return isinstance(other, Store) and self.state == other.state
 
     def do_deed(self, deed):
-        """Writes what deed, a deed, needs."""
+        """Writes what deed, a deed, needs; how many records these are."""
         writes = writes_in(self.window(), deed)
         if writes is None:
             raise Full()
         self.state = all_written(self.state, writes)
+        return len(writes)
 
     def come(self, event):
         """Event comes, if it is one and can come now."""

@@ -6,7 +6,7 @@ import unittest
 
 FOLDER = pathlib.Path(__file__).parent / "examples"
 MODULES = ("errors", "signs", "shapes", "records", "devices", "places", "fits", "threelives", "table", "log", "mending",
-           "meaning", "carrying", "store", "stories", "outcomes")
+           "meaning", "carrying", "store", "stories", "outcomes", "costs", "wear", "readers", "server")
 
 
 def names_of_all():
