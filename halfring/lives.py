@@ -84,6 +84,14 @@ def life_leaving(shape, picture, number):
     return writes[:number] + (("sync",),) + writes[number:] + (("cut", fates),)
 
 
+def life_leaving_at(shape, picture, place):
+    """A life that ends with a cut, all in flight, all ahead of place having stood, and leaves picture.
+
+    place has a fit."""
+    # From number K on each cell has been written, with whatever record it shows.
+    return life_leaving(shape, picture, place if place >= shape[0] else place + turn_in(shape))
+
+
 def record_shown(shape, picture, shown, number):
     """The record that picture shows as number; a blank one if it does not show it."""
     if not shows_in(shape, shown, number):

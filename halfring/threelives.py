@@ -3,7 +3,7 @@
 from halfring.devices import checked_picture
 from halfring.errors import CanNot, Unfit
 from halfring.flights import TORN
-from halfring.lives import ending_of, life_leaving
+from halfring.lives import ending_of, life_leaving, life_leaving_at
 from halfring.log import checked_life, is_life_in
 from halfring.records import BLANK
 from halfring.ring import is_safe_ring, least_flown, places_in, turn_in, window_in, write_in
@@ -20,9 +20,7 @@ def life_at(shape, picture, place):
     place = checked_for(is_place_in, shape, place)
     if least_flown(shape, places_in(shape, picture), place) is None:
         raise CanNot()
-    # From number K on each cell has been written, so whatever record it shows can have been written there.
-    number = place if place >= shape[0] else place + turn_in(shape)
-    return life_leaving(shape, picture, number)
+    return life_leaving_at(shape, picture, place)
 
 
 def picture_of(shape, life):

@@ -61,17 +61,18 @@ class TestRows(unittest.TestCase):
     def test_in_each_form(self):
         for shape, deeds, whole, carried in (
                 (WIDE, (), (), ()), (WIDE, PUTS, (1, 1), (0, 0)), (WIDE, PUTS + (LOT,), (1, 1, 2), (0, 0, 0)),
-                (TIGHT, WORST, (1, 1, 1, 3, 3, 3), (0, 0, 0, 2, 2, 2)), ((8, 4, 2), PUTS + (LOT, LOT), (1, 1, 2, 4),
-                                                                         (0, 0, 0, 2)),
-                ((2, 1, 1), (DROP,) * 3, (1, 1, 1), (0, 0, 0)), ((4, 1, 2), PUTS + (DROP,) * 3, (1, 1, 1, 3, 3),
-                                                                 (0, 0, 0, 2, 2)),
+                (TIGHT, WORST, (1, 1, 1, 3, 3, 3), (0, 0, 0, 2, 2, 2)),
+                ((8, 4, 2), PUTS + (LOT, LOT), (1, 1, 2, 4), (0, 0, 0, 2)),
+                ((2, 1, 1), (DROP,) * 3, (1, 1, 1), (0, 0, 0)),
+                ((4, 1, 2), PUTS + (DROP,) * 3, (1, 1, 1, 3, 3), (0, 0, 0, 2, 2)),
                 ((6, 2, 2), PUTS + (DROP,) * 6, (1, 1, 1, 1, 3, 1, 3, 1), (0, 0, 0, 0, 2, 0, 2, 0))):
             self.assertEqual(told(self, writes_of, shape=shape, deeds=deeds), whole)
             self.assertEqual(told(self, carried_of, shape=shape, deeds=deeds), carried)
 
     def test_no_room(self):
         for shape, deeds in ((TIGHT, PUTS + (("put", "c", "x"),)), (TIGHT, PUTS + (("put", "c", "x"), DROP)),
-                             (TIGHT, (("lot", (DROP,) * 4),)), ((3, 2, 2), PUTS[:1]), ((3, 2, 2), (DROP, PUTS[0], DROP)),
+                             (TIGHT, (("lot", (DROP,) * 4),)), ((3, 2, 2), PUTS[:1]),
+                             ((3, 2, 2), (DROP, PUTS[0], DROP)),
                              ((3, 2, 2), (("lot", (DROP, DROP)),)), (TIGHT, PUTS + (("lot", (DROP, DROP)),)),
                              ((4, 1, 1), PUTS + (("put", "c", "x"),))):
             for function in (writes_of, carried_of):
@@ -117,7 +118,8 @@ class TestMost(unittest.TestCase):
                 self.assertEqual(whole * (window_in(shape) - keys), part * window_in(shape))
                 self.assertFalse([own for own in range(2, whole + 1) if whole % own == 0 and part % own == 0])
                 # So many deeds more take just so many records more, once the row is long.
-                self.assertEqual(most_writes(shape, keys, 1000 + 60 * part) - most_writes(shape, keys, 1000), 60 * whole)
+                self.assertEqual(most_writes(shape, keys, 1000 + 60 * part) - most_writes(shape, keys, 1000),
+                                 60 * whole)
 
     def test_syncs_of(self):
         for shape, records, wanted in ((TIGHT, 0, 0), (TIGHT, 1, 0), (TIGHT, 3, 0), (TIGHT, 4, 1), (TIGHT, 6, 1),
@@ -146,7 +148,8 @@ class TestMost(unittest.TestCase):
 
 class TestWorstRows(unittest.TestCase):
     def test_in_each_form(self):
-        for shape, keys, many in ((TIGHT, 2, 20), (TIGHT, 0, 5), (TIGHT, 2, 0), (TIGHT, 2, 1), (WIDE, 4, 9), ((2, 1, 1), 0, 4)):
+        for shape, keys, many in ((TIGHT, 2, 20), (TIGHT, 0, 5), (TIGHT, 2, 0), (TIGHT, 2, 1), (WIDE, 4, 9),
+                                  ((2, 1, 1), 0, 4)):
             row = told(self, worst_row, shape=shape, keys=keys, many=many)
             self.assertEqual(len(row), many)
             self.assertIs(told(self, is_worst_row, shape=shape, keys=keys, thing=row), True)

@@ -6,7 +6,8 @@ import unittest
 
 FOLDER = pathlib.Path(__file__).parent / "examples"
 MODULES = ("errors", "signs", "shapes", "records", "devices", "places", "fits", "threelives", "table", "log", "mending",
-           "meaning", "carrying", "store", "stories", "outcomes", "costs", "wear", "readers", "server")
+           "meaning", "carrying", "store", "stories", "outcomes", "costs", "wear", "readers", "server",
+           "examiner", "judge", "texts", "desk")
 
 
 def names_of_all():

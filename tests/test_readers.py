@@ -5,8 +5,8 @@ import unittest
 
 from halfring.errors import CanNot, Unfit
 from halfring.log import begun_log, log_synced, logged
-from halfring.readers import (is_wrong_looks, moments, most_begun, reads_right, right_by_numbers, seen, told as told_table,
-                              wrong_looks)
+from halfring.readers import (is_wrong_looks, moments, most_begun, reads_right, right_by_numbers, seen,
+                              told as told_table, wrong_looks)
 from tests.helper import (BLANK, DROP, PUT, TORN, WRONG_RECORDS, WRONG_SHAPES, StoryByHand, all_shapes, answer_by_hand,
                           dice_of, is_safe_by_hand, lists, refuses, refuses_each, some_record, some_wide_shapes,
                           table_by_hand, told)
@@ -21,7 +21,8 @@ MORE = (("put", "a", "z", 0, 0), ("drop", "b", 0, 0))
 TABLES = [(("a", "x"), ("b", "y")), (("b", "y"), ("c", "x")), (("a", "z"), ("c", "x")), (("a", "z"),)]
 ODD = ((1, BLANK), (1, BLANK), (0, BLANK), (1, BLANK))
 WRONG_LOOKS = (None, True, 5, "", "00000", (), (0,), (0,) * 4, (0,) * 6, (0, 0, 0, 0, -1), (0, 0, 0, 0, None),
-               (True, 0, 0, 0, 0), (0, False, 0, 0, 0), (0, 0, "0", 0, 0), (0, 0, 0, 1.0, 0), ((0,) * 5,), {}, ((0,),) * 5)
+               (True, 0, 0, 0, 0), (0, False, 0, 0, 0), (0, 0, "0", 0, 0), (0, 0, 0, 1.0, 0), ((0,) * 5,), {},
+               ((0,),) * 5)
 
 
 def bound_by_hand(shape):

@@ -7,9 +7,9 @@ from halfring.errors import Asleep, Awake, CanNot, NoCell, NoClient, Unfit, Unsa
 from halfring.log import begun_log
 from halfring.server import Server
 from halfring.store import Store
-from tests.helper import (BLANK, JUNK, TORN, WRONG_DEEDS, WRONG_SHAPES, WRONG_WORDS, StoryByHand, all_shapes, answer_by_hand,
-                          deed_of, depth_of, dice_of, is_safe_by_hand, lists, lists_at, refuses, refuses_each,
-                          safe_shapes, table_by_hand, with_deeds_by_hand)
+from tests.helper import (BLANK, JUNK, TORN, WRONG_DEEDS, WRONG_SHAPES, WRONG_WORDS, StoryByHand, all_shapes,
+                          answer_by_hand, deed_of, depth_of, dice_of, is_safe_by_hand, lists, lists_at, refuses,
+                          refuses_each, safe_shapes, table_by_hand, with_deeds_by_hand)
 from tests.test_meaning import NO_NATURALS
 from tests.test_store import NO_FATES_AT_ALL
 
@@ -52,7 +52,8 @@ def face(server):
     """All that a server tells without being changed, but for its readers."""
     if not server.is_awake():
         return server.device(), False
-    return server.device(), server.log(), server.table(), server.clients(), [server.last(own) for own, _ in server.clients()]
+    lasts = [server.last(own) for own, _ in server.clients()]
+    return server.device(), server.log(), server.table(), server.clients(), lasts
 
 
 class TestLetters(unittest.TestCase):
@@ -86,7 +87,8 @@ class TestLetters(unittest.TestCase):
 
     def test_what_is_written(self):
         own = begun()
-        self.assertEqual(tuple(cell[1] for cell in own.device()[1][:4]) + tuple(write[1][1] for write in own.device()[2]), (
+        rows = [cell[1] for cell in own.device()[1][:4]], [write[1][1] for write in own.device()[2]]
+        self.assertEqual(tuple(rows[0] + rows[1]), (
             ("put", "k", "x", 0, 1), ("put", "@ann", "1", 1, 0), ("put", "m", "y", 0, 2), ("drop", "k", 1, 1),
             ("put", "@ann", "2", 2, 0), ("put", "n", "q", 0, 1), ("put", "@bob", "1", 1, 0)))
 
@@ -329,7 +331,8 @@ class TestPower(unittest.TestCase):
 
     def test_as_those_of_a_store(self):
         own, store = begun(), Store(RING)
-        for parts in ((K, ("put", "@ann", "1")), PAIR[1] + (("put", "@ann", "2"),), (("put", "n", "q"), ("put", "@bob", "1"))):
+        for parts in ((K, ("put", "@ann", "1")), PAIR[1] + (("put", "@ann", "2"),),
+                      (("put", "n", "q"), ("put", "@bob", "1"))):
             store.lot(parts)
         self.assertEqual((own.device(), own.log()), (store.device(), store.log()))
         for name, args in (("sync", ()), ("cut", ((),)), ("mend", (0, ())), ("wake", ())):
